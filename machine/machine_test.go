@@ -142,15 +142,15 @@ func TestDeadlock(t *testing.T) {
 	// One that waits, beside the dead.
 	watched(t, usual(3, 256), program(0, f(spawn(1, 0), exit()), f(block(31)))).finish(20, api.Deadlock)
 	// The commit that ends the run is of another one.
-	watched(t, usual(2, 256), program(0, f(spawn(1, 0), sleep(3), exit()), f(block(5)))).sleepers(api.Deadlock)
+	watched(t, usual(2, 256), program(0, f(spawn(1, 0), sleep(3), exit()), f(block(5)))).ticking(1, api.Deadlock)
 }
 
-// sleepers goes on by rounds with a tick each.
-func (w *watch) sleepers(status int) {
+// ticking goes on by rounds, with so many ticks ahead of each.
+func (w *watch) ticking(ticks, status int) {
 	w.t.Helper()
-	for range 100 {
+	for range 3000 {
 		if w.m.Status() == api.Runs {
-			w.step(api.Choice{Tick: 1})
+			w.step(api.Choice{Tick: ticks})
 			w.round()
 		}
 	}
@@ -259,7 +259,7 @@ func TestCommits(t *testing.T) {
 			set(700), dec(13), spawn(1, 4), wake(3), yield(), wake(3), sleep(300), block(0), load(5, 15, 0)),
 		f(load(1, 0, 2), eq(0, 1), block(3), sleep(900), wake(0), load(1, 0, 3)))
 	w := watched(t, usual(1, 256), p)
-	w.sleepTo(api.Done)
+	w.ticking(100, api.Done)
 	var told []int
 	for i := range w.m.Commits() {
 		c, _ := w.m.Commit(i)
@@ -280,20 +280,6 @@ func TestCommits(t *testing.T) {
 	}
 }
 
-// sleepTo goes on by rounds with a hundred ticks each.
-func (w *watch) sleepTo(status int) {
-	w.t.Helper()
-	for range 3000 {
-		if w.m.Status() == api.Runs {
-			w.step(api.Choice{Tick: 100})
-			w.round()
-		}
-	}
-	if w.m.Status() != status {
-		w.t.Fatalf("28.1: Status: %d", w.m.Status())
-	}
-}
-
 func TestMaxGs(t *testing.T) {
 	t.Parallel()
 	w := watched(t, usual(2, 256), program(0, f(spawn(1, 0), jump(0)), f(block(0))))
@@ -308,6 +294,16 @@ func TestMaxGs(t *testing.T) {
 	if w.m.Status() != api.Deadlock || len(w.m.View().Gs) != api.MaxGs || !c.Fault || c.Value != 0 || c.G != 0 {
 		t.Fatalf("28.3: Status %d, %+v", w.m.Status(), c)
 	}
+}
+
+// byGoroutine is how many commits there were of each goroutine.
+func (w *watch) byGoroutine() map[int]int {
+	by := map[int]int{}
+	for i := range w.m.Commits() {
+		c, _ := w.m.Commit(i)
+		by[c.G]++
+	}
+	return by
 }
 
 // last is the last commit of an Op.

@@ -15,11 +15,7 @@ func TestQuantum(t *testing.T) {
 		for range 2000 {
 			w.round()
 		}
-		by := map[int]int{}
-		for i := range w.m.Commits() {
-			c, _ := w.m.Commit(i)
-			by[c.G]++
-		}
+		by := w.byGoroutine()
 		for g := range 8 {
 			if by[g] < 100 {
 				t.Errorf("28.7: %d commits of %d with %d Ps", by[g], g, ps)
@@ -195,11 +191,7 @@ func TestNobodyIsKeptFromTheirTurn(t *testing.T) {
 	for range 3000 {
 		w.round()
 	}
-	by := map[int]int{}
-	for i := range w.m.Commits() {
-		c, _ := w.m.Commit(i)
-		by[c.G]++
-	}
+	by := w.byGoroutine()
 	for g := range 6 {
 		if by[g] < 50 {
 			t.Errorf("T4: %d commits of %d", by[g], g)
