@@ -343,6 +343,32 @@ func TestTheSameAgain(t *testing.T) {
 	}
 }
 
+func TestLikeConfigurations(t *testing.T) {
+	t.Parallel()
+	// What comes to the same by conf runs the same.
+	r := rand.New(rand.NewSource(7))
+	script := encoded(t, program(1, f(spawn(1, 0), spawn(1, 0), spawn(2, 0), exit()), f(alloc(0, 7), alloc(1, 30), jump(0)), f(set(20), get(1, 0), alloc(0, 3), store(0, 0, 1), put(0, 0), dec(1), put(0, 15), jump(0))))
+	for _, x := range [][2]api.Config{
+		{{Percent: math.NaN(), Part: math.NaN()}, {Percent: 100, Part: 0.25}},
+		{{Percent: math.Copysign(0, -1), Part: math.Inf(1)}, {Percent: 0.9, Part: 1}},
+		{{Percent: math.Inf(1), Part: -3}, {Percent: -1, Part: 1.0 / 64}},
+		{{Percent: 1e9, Part: math.Inf(-1)}, {Percent: 10000, Part: 0}},
+	} {
+		x[0].Ps, x[0].Words, x[1].Ps, x[1].Words = 3, 768, 3, 768
+		a, _, _ := machine.New(x[0], script)
+		b, _, _ := machine.New(x[1], script)
+		for range 5000 {
+			ch := choice(r, 3)
+			if e, f := a.Step(ch), b.Step(ch); e != f {
+				t.Fatalf("28.2: %+v of %+v, %+v of %+v", e, x[0], f, x[1])
+			}
+		}
+		if a.Goal() != b.Goal() || a.Commits() != b.Commits() || a.Cycle() < 2 || !same(a.View(), b.View()) {
+			t.Fatalf("28.7: %+v, %+v, %d cycles", x[0], x[1], a.Cycle())
+		}
+	}
+}
+
 // asked asks all that may be asked, and changes what is answered.
 func asked(m *machine.Machine) {
 	m.Status()
