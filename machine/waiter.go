@@ -96,10 +96,10 @@ func (m *Machine) starve(p int, w *waiter) api.Event {
 	return m.beginMark(p, p)
 }
 
-// credited gives words that were scanned to the first one that waits for credit, or to all.
+// credited gives words that were scanned to the first one that waits for credit, or to all. There are none where all roots were stacks of the dead.
 func (m *Machine) credited(words int) api.Event {
 	for _, w := range m.waiting {
-		if !w.room && !m.covers(w.g, w.words) {
+		if words > 0 && !w.room && !m.covers(w.g, w.words) {
 			m.credit.Scan(w.g, words)
 			return api.Event{Kind: api.EvWork, G: w.g}
 		}
